@@ -1,0 +1,1 @@
+"""Holerows: which rows count the faces and the holes of some family."""

@@ -1,0 +1,17 @@
+"""What the conventions call integers, tuples of integers, and ascending."""
+
+
+def is_integer_from(thing, least):
+    """Whether any value is an integer, the least one or above it."""
+    # Python counts bools among its integers, the document does not.
+    return isinstance(thing, int) and not isinstance(thing, bool) and thing >= least
+
+
+def are_integers_from(thing, least):
+    """Whether any value is a tuple of integers, each the least one or above it."""
+    return isinstance(thing, tuple) and all([is_integer_from(part, least) for part in thing])
+
+
+def is_rising(row):
+    """Whether each item of a row is above the item ahead of it."""
+    return all([row[k] < row[k + 1] for k in range(len(row) - 1)])

@@ -1,0 +1,143 @@
+"""The names, the parameters and the places of the interface, and the form of the package's files."""
+
+import ast
+import importlib
+import inspect
+import pathlib
+import unittest
+
+PACKAGE = pathlib.Path(__file__).resolve().parent.parent / "holerows"
+
+INTERFACE = {
+    "holerows.cascades": {
+        "cascade_of": ["number", "size"],
+        "lower_sets": ["number", "size"],
+        "upper_sets": ["number", "size"],
+        "lower_products": ["number", "size"],
+        "upper_products": ["number", "size"],
+        "is_cascade": ["size", "thing"],
+        "number_of": ["size", "cascade"],
+    },
+    "holerows.families": {
+        "is_set": ["thing"],
+        "is_family": ["thing"],
+        "family_of": ["sets"],
+        "counts_of": ["family"],
+        "euler_of": ["family"],
+        "parts_of": ["family"],
+        "family_text": ["family"],
+        "faces_of": ["family", "size"],
+        "is_face": ["family", "thing"],
+        "read_family": ["text"],
+    },
+    "holerows.builds": {
+        "link_of": ["family", "face"],
+        "without": ["family", "face"],
+        "mirror_of": ["family"],
+        "skeleton_of": ["family", "size"],
+        "cone_of": ["family"],
+        "hung_of": ["family"],
+        "join_of": ["one", "other"],
+        "beside": ["one", "other"],
+        "renamed": ["family", "names"],
+    },
+}
+
+# For each function: arguments that are right, and what comes.
+RIGHT = {
+    "cascade_of": ((8, 3), (4, 3, 1)),
+    "lower_sets": ((8, 3), 10),
+    "upper_sets": ((8, 3), 2),
+    "lower_products": ((8, 3), 6),
+    "upper_products": ((8, 3), 10),
+    "is_cascade": ((3, (4, 3, 1)), True),
+    "number_of": ((3, (4, 3, 1)), 8),
+    "is_set": (((0, 4),), True),
+    "is_family": ((((0, 1), (2,)),), True),
+    "family_of": ((((2,), (1, 2), (0,)),), ((0,), (1, 2))),
+    "counts_of": ((((0, 1), (2,)),), (3, 1)),
+    "euler_of": ((((0, 1), (2,)),), 1),
+    "parts_of": ((((0, 2), (1,)),), ((0, 2), (1,))),
+    "family_text": ((((0, 2), (1,)),), "02 1"),
+    "faces_of": ((((0, 2), (1,)), 2), ((0, 2),)),
+    "is_face": ((((0, 2), (1,)), (0, 1)), False),
+    "read_family": (("02 1",), ((0, 2), (1,))),
+    "link_of": ((((0, 2), (1,)), (2,)), ((0,), ((0,),))),
+    "without": ((((0, 2), (1,)), (1,)), ((0, 2), ((0, 1),))),
+    "mirror_of": ((((0, 2), (1,)),), ((0, 2), ((0,), (1,)))),
+    "skeleton_of": ((((0, 2), (1,)), 1), ((0,), (1,), (2,))),
+    "cone_of": ((((0, 2), (1,)),), ((0, 2, 3), (1, 3))),
+    "hung_of": ((((0,),),), ((0, 1), (0, 2))),
+    "join_of": ((((0,),), ((0,), (1,))), ((0, 1), (0, 2))),
+    "beside": ((((0,),), ((0, 1),)), ((0,), (1, 2))),
+    "renamed": ((((0, 2), (1,)), (1, 2, 0)), ((0, 1), (2,))),
+}
+
+
+def interface():
+    for module, functions in INTERFACE.items():
+        for name, parameters in functions.items():
+            yield module, name, parameters, getattr(importlib.import_module(module), name)
+
+
+class Interface(unittest.TestCase):
+
+    def test_each_function_is_defined_in_its_file(self):
+        for module, name, _, function in interface():
+            self.assertTrue(inspect.isfunction(function), name)
+            self.assertEqual(function.__module__, module)
+            self.assertEqual(function.__name__, name)
+
+    def test_parameters_have_their_names_and_no_defaults(self):
+        for _, name, parameters, function in interface():
+            told = inspect.signature(function).parameters
+            self.assertEqual(list(told), parameters, name)
+            for parameter in told.values():
+                self.assertIs(parameter.kind, inspect.Parameter.POSITIONAL_OR_KEYWORD)
+                self.assertIs(parameter.default, inspect.Parameter.empty)
+
+    def test_by_position_and_by_name(self):
+        for _, name, parameters, function in interface():
+            args, answer = RIGHT[name]
+            named = dict(zip(parameters, args))
+            backwards = dict(reversed(list(named.items())))
+            mixed = {key: named[key] for key in parameters[1:]}
+            for found in (function(*args), function(*args), function(**named), function(**backwards),
+                          function(args[0], **mixed)):
+                self.assertEqual(repr(found), repr(answer), name)
+
+
+class Form(unittest.TestCase):
+
+    def sources(self):
+        return sorted(path for path in PACKAGE.rglob("*") if path.is_file() and "__pycache__" not in path.parts)
+
+    def test_only_python_files(self):
+        self.assertIn(PACKAGE / "__init__.py", self.sources())
+        for path in self.sources():
+            self.assertEqual(path.suffix, ".py", path)
+
+    def test_sizes_and_characters(self):
+        for path in self.sources():
+            text = path.read_bytes().decode("ascii")
+            self.assertTrue(all(sign == "\n" or " " <= sign <= "~" for sign in text), path)
+            rows = text.split("\n")
+            self.assertLessEqual(len(rows), 399, path)
+            self.assertLessEqual(max(map(len, rows)), 120, path)
+            for node in ast.walk(ast.parse(text)):
+                if isinstance(node, ast.FunctionDef):
+                    self.assertLessEqual(node.end_lineno - node.lineno + 1, 40, (path, node.name))
+
+    def test_imports_are_of_the_package_or_allowed(self):
+        allowed = {"math": {"comb"}, "itertools": {"combinations"}}
+        for path in self.sources():
+            for node in ast.walk(ast.parse(path.read_text())):
+                self.assertNotIsInstance(node, ast.Import, path)
+                if isinstance(node, ast.ImportFrom):
+                    self.assertEqual(node.level, 0)
+                    names = {part.name for part in node.names}
+                    self.assertTrue(node.module.startswith("holerows.") or names <= allowed[node.module])
+
+
+if __name__ == "__main__":
+    unittest.main()
