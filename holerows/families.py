@@ -30,8 +30,7 @@ def family_of(sets):
 def counts_of(family):
     """The numbers of faces of the sizes from 1 up to the greatest one."""
     check_family(family)
-    greatest = max([len(facet) for facet in family], default=0)
-    return tuple([len(faces_within(family, size)) for size in range(1, greatest + 1)])
+    return tuple([len(faces_within(family, size)) for size in range(1, greatest_size(family) + 1)])
 
 
 def euler_of(family):
@@ -56,19 +55,13 @@ def faces_of(family, size):
     check_family(family)
     if not is_integer_from(size, 0):
         raise BadSize(size)
-    if size == 0:
-        return ((),)
-    if size > MOST_POINTS:
-        return ()
-    return tuple(faces_within(family, size))
+    return tuple(faces_at(family, size))
 
 
 def is_face(family, thing):
     """Whether any value is a face of the family."""
     check_family(family)
-    if not is_set(thing):
-        return False
-    return len(thing) == 0 or any([lies_within(thing, facet) for facet in family])
+    return is_face_within(family, thing)
 
 
 def family_text(family):
@@ -123,6 +116,27 @@ def points_in(sets):
     return tuple(sorted({point for points in sets for point in points}))
 
 
+def greatest_size(family):
+    """The size of the greatest facets, 0 for ()."""
+    return max([len(facet) for facet in family], default=0)
+
+
+def is_face_within(family, thing):
+    """Whether any value is a set that lies within a facet, or ()."""
+    if not is_set(thing):
+        return False
+    return len(thing) == 0 or any([lies_within(thing, facet) for facet in family])
+
+
+def faces_at(family, size):
+    """The ascending list of the faces of any size from 0 on."""
+    if size == 0:
+        return [()]
+    if size > MOST_POINTS:
+        return []
+    return faces_within(family, size)
+
+
 def faces_within(family, size):
     """The ascending list of the sets of a size from 1 to MOST_POINTS that lie within facets."""
     return sorted({face for facet in family for face in combinations(facet, size)})
@@ -140,8 +154,12 @@ def has_common_point(points, others):
 
 def outermost(sets):
     """The ascending tuple of those sets, other than (), that lie within no other one."""
-    masks = outer_masks([mask_of(points) for points in sets])
-    return tuple(sorted([points_of(mask) for mask in masks if mask > 0]))
+    return outermost_of([mask_of(points) for points in sets])
+
+
+def outermost_of(masks):
+    """The ascending tuple of the sets with those masks, above 0, that lie within no other one."""
+    return tuple(sorted([points_of(mask) for mask in outer_masks(masks) if mask > 0]))
 
 
 def outer_masks(masks):

@@ -15,3 +15,13 @@ def are_integers_from(thing, least):
 def is_rising(row):
     """Whether each item of a row is above the item ahead of it."""
     return all([row[k] < row[k + 1] for k in range(len(row) - 1)])
+
+
+def is_just(thing, right):
+    """Whether any value equals a right one of tuples, strings and integers, and is of its kinds."""
+    if isinstance(right, tuple):
+        if not isinstance(thing, tuple) or len(thing) != len(right):
+            return False
+        return all([is_just(part, other) for part, other in zip(thing, right)])
+    # A bool can equal an integer, but is of another kind.
+    return not isinstance(thing, bool) and thing == right

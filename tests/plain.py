@@ -1,6 +1,7 @@
 """What the tests share: values of many kinds, many families, and plain looks at all sets."""
 
 import random
+from functools import cmp_to_key
 from itertools import combinations
 
 
@@ -175,6 +176,129 @@ def wrong_families():
     wrong.extend(spoiled(()))
     wrong.extend(spoiled(((0, 1), (2,))))
     return [thing for thing in wrong if not is_plain_family(thing)]
+
+
+def plain_push(faces, i, j):
+    """The faces behind a push, each looked at as it stands ahead of it."""
+    moved = set()
+    for face in faces:
+        other = face - {j} | {i}
+        moved.add(other if j in face and i not in face and other not in faces else face)
+    return moved
+
+
+def plain_order(one, other):
+    """Below 0 if the one set stands ahead of the other one, of the same size, by their greatest points."""
+    apart = set(one) ^ set(other)
+    if not apart:
+        return 0
+    return 1 if max(apart) in one else -1
+
+
+def plain_listing(points, size):
+    """All sets of a size of the first points, in the order by greatest points."""
+    return sorted(combinations(range(points), size), key=cmp_to_key(plain_order))
+
+
+FIELDS = (0, 2, 3, 5, 7)
+FOLDED = ((0, 1, 3), (0, 1, 4), (0, 2, 3), (0, 2, 5), (0, 4, 5),
+          (1, 2, 4), (1, 2, 5), (1, 3, 5), (2, 3, 4), (3, 4, 5))
+# Eight points, all pairs of them, and the triples whose sum leaves 0, 1 or 3 by 8: a hole over 3 alone.
+OVER_3_ALONE = tuple(triple for triple in combinations(range(8), 3) if sum(triple) % 8 in (0, 1, 3))
+# No minor of the small matrices of the tests is a multiple of so great a prime, so it stands for fractions.
+GREAT_PRIME = 2 ** 61 - 1
+
+
+def is_plain_number(p, thing):
+    return type(thing) is int and thing != 0 and (p == 0 or 0 < thing < p)
+
+
+def in_field(p, number):
+    return number % p if p else number
+
+
+def is_plain_chain(faces, p, size, thing):
+    """Whether a value is a chain; the faces are told as a set of tuples."""
+    if type(thing) is not tuple:
+        return False
+    for part in thing:
+        if type(part) is not tuple or len(part) != 2 or not is_plain_set(part[0]) or part[0] not in faces:
+            return False
+        if len(part[0]) != size or not is_plain_number(p, part[1]):
+            return False
+    told = [part[0] for part in thing]
+    return told == sorted(set(told))
+
+
+def face_tuples(family):
+    return {tuple(sorted(face)) for face in plain_faces(family)}
+
+
+def plain_chain(p, sums):
+    """The chain of a dict of sums."""
+    return tuple(sorted((face, in_field(p, total)) for face, total in sums.items() if in_field(p, total)))
+
+
+def plain_rim(p, chain):
+    """The rim, summed up at each set that comes by leaving out a point."""
+    sums = {}
+    for face, number in chain:
+        for at in range(len(face)):
+            part = tuple(point for place, point in enumerate(face) if place != at)
+            sums[part] = sums.get(part, 0) + (-1) ** at * number
+    return plain_chain(p, sums)
+
+
+def plain_sum(p, *chains):
+    """The sum of some chains."""
+    sums = {}
+    for chain in chains:
+        for face, number in chain:
+            sums[face] = sums.get(face, 0) + number
+    return plain_chain(p, sums)
+
+
+def plain_times(p, by, chain):
+    return plain_chain(p, {face: by * number for face, number in chain})
+
+
+def plain_product(p, one, other):
+    other = dict(other)
+    return in_field(p, sum(number * other.get(face, 0) for face, number in one))
+
+
+def plain_echelon(rows, p):
+    """Rows of numbers by a prime made a staircase; the rows that are 0 are left out."""
+    rows = [list(row) for row in rows]
+    stairs = []
+    for at in range(len(rows[0]) if rows else 0):
+        found = next((row for row in rows if row[at] % p), None)
+        if found is None:
+            continue
+        rows.remove(found)
+        stairs.append(found)
+        back = pow(found[at], -1, p)
+        rows = [[(a - row[at] * back * b) % p for a, b in zip(row, found)] if row[at] % p else row for row in rows]
+    return stairs
+
+
+def plain_rank(chains, p):
+    """The number of independent ones among some chains."""
+    places = sorted({face for chain in chains for face, _ in chain})
+    rows = [[dict(chain).get(face, 0) for face in places] for chain in chains]
+    return len(plain_echelon(rows, p or GREAT_PRIME))
+
+
+def plain_rims(faces, p, size):
+    return [plain_rim(p, ((face, 1),)) for face in sorted(faces) if len(face) == size]
+
+
+def plain_holes(family, p):
+    faces = face_tuples(family)
+    greatest = max(map(len, faces))
+    many = [sum(len(face) == size for face in faces) for size in range(greatest + 2)]
+    ranks = [0] + [plain_rank(plain_rims(faces, p, size), p) for size in range(1, greatest + 2)]
+    return tuple(many[size] - ranks[size] - ranks[size + 1] for size in range(1, greatest + 1))
 
 
 def error_of(call, *args, **named):

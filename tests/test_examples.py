@@ -1,4 +1,4 @@
-"""The examples of the document's parts 1 and 2, as they stand there, and those of README.md."""
+"""The examples of the document's parts 1 to 4, as they stand there, and those of README.md."""
 
 import doctest
 import pathlib
@@ -31,6 +31,30 @@ raises BadText(1)
 [((0, 2), (1, 2)), ((0, 2), (0, 3), (1, 2), (1, 3)), ((0, 2), (1, 2)), None]
 """
 
+PART_3 = """
+>>> from holerows.firsts import set_number, set_at, first_sets, shadow_of, judge_counts, first_family, counts_hold
+>>> [set_number((0, 2, 3)), set_at(3, 2), first_sets(2, 4), shadow_of(((0, 1, 2), (0, 1, 3)))]
+[2, (0, 2, 3), ((0, 1), (0, 2), (1, 2), (0, 3)), ((0, 1), (0, 2), (0, 3), (1, 2), (1, 3))]
+>>> [judge_counts((4, 5, 2)), judge_counts((4, 5, 3)), judge_counts((5,)), first_family((4, 5, 2)), counts_hold((5, 10 ** 30), ('size', 1))]
+[('fits', (4, 5)), ('size', 2), ('fits', ()), ((0, 1, 2), (0, 1, 3)), True]
+>>> from holerows.pushes import pushed, low_form, is_low, low_holes
+>>> [pushed(((0, 1), (2, 3)), 0, 2), low_form(((0, 1), (2, 3))), is_low(((0, 1), (0, 2), (1, 2))), low_holes(((0, 1), (0, 2), (1, 2)))]
+[((0, 1), (0, 3), (2,)), ((0, 1), (0, 2), (3,)), True, (0, 1)]
+"""
+
+PART_4 = """
+>>> from holerows.chains import rim_of, is_cycle, judge_cycle, cycle_holds, is_chain
+>>> ring = ((0, 1), (0, 2), (1, 2))
+>>> [rim_of(ring, 0, (((0, 1), 1), ((1, 2), 3))), is_cycle(ring, 0, (((0, 1), 1), ((0, 2), -1), ((1, 2), 1))), is_chain(ring, 2, 2, (((0, 1), 2),))]
+[(((0,), -1), ((1,), -2), ((2,), 3)), True, False]
+>>> [cycle_holds(ring, 2, (((0, 1), 1), ((0, 2), 1), ((1, 2), 1)), ('cut', (((0, 1), 1),))), cycle_holds(((0, 1, 2),), 3, (((0, 1), 1), ((0, 2), 2), ((1, 2), 1)), ('fills', 1, (((0, 1, 2), 1),)))]
+[True, True]
+>>> from holerows.holes import holes_of, pairs_hold
+>>> folded = ((0, 1, 3), (0, 1, 4), (0, 2, 3), (0, 2, 5), (0, 4, 5), (1, 2, 4), (1, 2, 5), (1, 3, 5), (2, 3, 4), (3, 4, 5))
+>>> [holes_of(folded, 2), holes_of(folded, 3), holes_of(((0,), (1,), (2,)), 0), holes_of((), 2), pairs_hold(ring, 0, 2, (((((0, 1), 1), ((0, 2), -1), ((1, 2), 1)),), ((((0, 1), 1),),)))]
+[(0, 1, 1), (0, 0, 0), (2,), (), True]
+"""
+
 
 def shown(code, names):
     """What the document shows for a row of code: its value, or the error that it raises."""
@@ -45,17 +69,24 @@ class Examples(unittest.TestCase):
     def check(self, text):
         names = {}
         rows = text.strip().split("\n")
-        for at, row in enumerate(rows):
-            if row.startswith(">>> from"):
+        for row, following in zip(rows, rows[1:]):
+            if row.startswith(">>> ") and following.startswith(">>> "):
+                # Nothing is shown for an import or a name.
                 exec(row[4:], names)
             elif row.startswith(">>> "):
-                self.assertEqual(shown(row[4:], names), rows[at + 1], row)
+                self.assertEqual(shown(row[4:], names), following, row)
 
     def test_part_1(self):
         self.check(PART_1)
 
     def test_part_2(self):
         self.check(PART_2)
+
+    def test_part_3(self):
+        self.check(PART_3)
+
+    def test_part_4(self):
+        self.check(PART_4)
 
     def test_readme(self):
         readme = pathlib.Path(__file__).resolve().parent.parent / "README.md"

@@ -41,6 +41,34 @@ INTERFACE = {
         "beside": ["one", "other"],
         "renamed": ["family", "names"],
     },
+    "holerows.firsts": {
+        "set_number": ["points"],
+        "set_at": ["size", "number"],
+        "first_sets": ["size", "many"],
+        "shadow_of": ["sets"],
+        "is_counts": ["thing"],
+        "judge_counts": ["counts"],
+        "counts_hold": ["counts", "thing"],
+        "first_family": ["counts"],
+    },
+    "holerows.pushes": {
+        "pushed": ["family", "i", "j"],
+        "is_low": ["family"],
+        "low_form": ["family"],
+        "low_holes": ["family"],
+    },
+    "holerows.chains": {
+        "is_chain": ["family", "p", "size", "thing"],
+        "rim_of": ["family", "p", "chain"],
+        "is_cycle": ["family", "p", "chain"],
+        "judge_cycle": ["family", "p", "chain"],
+        "cycle_holds": ["family", "p", "chain", "thing"],
+    },
+    "holerows.holes": {
+        "holes_of": ["family", "p"],
+        "hole_pairs": ["family", "p", "size"],
+        "pairs_hold": ["family", "p", "size", "thing"],
+    },
 }
 
 # For each function: arguments that are right, and what comes.
@@ -71,6 +99,27 @@ RIGHT = {
     "join_of": ((((0,),), ((0,), (1,))), ((0, 1), (0, 2))),
     "beside": ((((0,),), ((0, 1),)), ((0,), (1, 2))),
     "renamed": ((((0, 2), (1,)), (1, 2, 0)), ((0, 1), (2,))),
+    "set_number": (((0, 2, 3),), 2),
+    "set_at": ((3, 2), (0, 2, 3)),
+    "first_sets": ((2, 3), ((0, 1), (0, 2), (1, 2))),
+    "shadow_of": ((((0, 2), (0, 1)),), ((0,), (1,), (2,))),
+    "is_counts": (((4, 5, 9),), True),
+    "judge_counts": (((4, 5, 2),), ("fits", (4, 5))),
+    "counts_hold": (((4, 5, 3), ("size", 2)), True),
+    "first_family": (((3, 2),), ((0, 1), (0, 2))),
+    "pushed": ((((0, 1), (2, 3)), 0, 2), ((0, 1), (0, 3), (2,))),
+    "is_low": ((((0, 1), (2, 3)),), False),
+    "low_form": ((((0, 1), (2, 3)),), ((0, 1), (0, 2), (3,))),
+    "low_holes": ((((0, 1), (2, 3)),), (2, 1)),
+    "is_chain": ((((0, 1),), 3, 2, (((0, 1), 2),)), True),
+    "rim_of": ((((0, 1),), 3, (((0, 1), 2),)), (((0,), 1), ((1,), 2))),
+    "is_cycle": ((((0, 1),), 3, (((0, 1), 2),)), False),
+    # Over 2 there is no other filling, and without holes there is nothing to show.
+    "judge_cycle": ((((0, 1),), 2, (((0,), 1), ((1,), 1))), ("fills", 1, (((0, 1), 1),))),
+    "cycle_holds": ((((0,), (1,)), 2, (((0,), 1), ((1,), 1)), ("cut", (((1,), 1),))), True),
+    "holes_of": ((((0, 1), (2,)), 2), (1, 0)),
+    "hole_pairs": ((((0, 1), (2,)), 2, 2), ((), ())),
+    "pairs_hold": ((((0, 1), (2,)), 2, 2, ((), ())), True),
 }
 
 
@@ -129,7 +178,7 @@ class Form(unittest.TestCase):
                     self.assertLessEqual(node.end_lineno - node.lineno + 1, 40, (path, node.name))
 
     def test_imports_are_of_the_package_or_allowed(self):
-        allowed = {"math": {"comb"}, "itertools": {"combinations"}}
+        allowed = {"math": {"comb", "gcd"}, "itertools": {"combinations"}}
         for path in self.sources():
             for node in ast.walk(ast.parse(path.read_text())):
                 self.assertNotIsInstance(node, ast.Import, path)
