@@ -1,7 +1,7 @@
 """Field numbers, and the numbers of a field."""
 
 from holerows.errors import BadField
-from holerows.values import is_integer_from
+from holerows.values import is_integer, is_integer_from
 
 # The number 0 stands for fractions, whose numbers are told as integers.
 FIELDS = (0, 2, 3, 5, 7)
@@ -15,7 +15,7 @@ def check_field(p):
 
 def is_number(p, thing):
     """Whether any value is a number of p other than 0."""
-    if not isinstance(thing, int) or isinstance(thing, bool) or thing == 0:
+    if not is_integer(thing) or thing == 0:
         return False
     return p == 0 or 0 < thing < p
 

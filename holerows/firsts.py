@@ -80,6 +80,12 @@ def check_counts(counts):
         raise BadCounts(counts)
 
 
+def check_some_counts(counts):
+    """Raises an error for any value that is no counts, and for ()."""
+    if not is_counts(counts) or len(counts) == 0:
+        raise BadCounts(counts)
+
+
 def check_fit(counts):
     """Raises an error for any value that is no counts, and for counts that no family has."""
     certificate = judge_counts(counts)

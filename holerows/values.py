@@ -1,10 +1,15 @@
 """What the conventions call integers, tuples of integers, and ascending."""
 
 
+def is_integer(thing):
+    """Whether any value is an integer."""
+    # Python counts bools among its integers, the document does not.
+    return isinstance(thing, int) and not isinstance(thing, bool)
+
+
 def is_integer_from(thing, least):
     """Whether any value is an integer, the least one or above it."""
-    # Python counts bools among its integers, the document does not.
-    return isinstance(thing, int) and not isinstance(thing, bool) and thing >= least
+    return is_integer(thing) and thing >= least
 
 
 def are_integers_from(thing, least):

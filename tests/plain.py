@@ -2,7 +2,7 @@
 
 import random
 from functools import cmp_to_key
-from itertools import combinations
+from itertools import combinations, combinations_with_replacement
 
 
 def deep(depth, core):
@@ -71,6 +71,10 @@ def is_plain_cascade(size, thing):
     if list(thing) != sorted(set(thing), reverse=True):
         return False
     return len(thing) <= size and all(top + at >= size for at, top in enumerate(thing))
+
+
+def is_plain_counts(thing):
+    return type(thing) is tuple and len(thing) <= 16 and all(is_plain_integer(part, 1) for part in thing)
 
 
 def are_plain_first_sets(thing):
@@ -299,6 +303,50 @@ def plain_holes(family, p):
     many = [sum(len(face) == size for face in faces) for size in range(greatest + 2)]
     ranks = [0] + [plain_rank(plain_rims(faces, p, size), p) for size in range(1, greatest + 2)]
     return tuple(many[size] - ranks[size] - ranks[size + 1] for size in range(1, greatest + 1))
+
+
+def is_plain_product(thing):
+    if type(thing) is not tuple or not all(is_plain_integer(letter, 0) for letter in thing):
+        return False
+    return list(thing) == sorted(thing)
+
+
+def plain_divisors(row):
+    """The products with one letter less that a product has, ascending."""
+    return tuple(sorted({tuple(row[:at]) + tuple(row[at + 1:]) for at in range(len(row))}))
+
+
+def is_plain_order(thing):
+    if type(thing) is not tuple or not all(is_plain_product(part) for part in thing):
+        return False
+    told = set(thing)
+    if list(thing) != sorted(told) or () not in told:
+        return False
+    return all(told.issuperset(plain_divisors(part)) for part in thing)
+
+
+def all_orders(letters, greatest):
+    """All orders of products of the first letters, of no degree above the greatest one."""
+    rows = [row for degree in range(1, greatest + 1) for row in combinations_with_replacement(range(letters), degree)]
+    found = [{()}]
+    for row in rows:
+        found.extend([order | {row} for order in found if order.issuperset(plain_divisors(row))])
+    return [tuple(sorted(order)) for order in found]
+
+
+def some_orders():
+    """Orders of products of up to ten letters, with up to 200 products, that a seeded chance picks."""
+    chance = random.Random(27)
+    orders = []
+    for _ in range(60):
+        order = {()}
+        letters = chance.sample(range(10), chance.randint(1, 6))
+        for _ in range(chance.randint(1, 300)):
+            row = tuple(sorted(chance.choice(sorted(order)) + (chance.choice(letters),)))
+            if order.issuperset(plain_divisors(row)) and len(order) < 200 and len(row) < 17:
+                order.add(row)
+        orders.append(tuple(sorted(order)))
+    return orders
 
 
 def error_of(call, *args, **named):

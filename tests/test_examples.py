@@ -1,4 +1,4 @@
-"""The examples of the document's parts 1 to 4, as they stand there, and those of README.md."""
+"""The examples of the document's parts 1 to 7, as they stand there, and those of README.md."""
 
 import doctest
 import pathlib
@@ -55,6 +55,40 @@ PART_4 = """
 [(0, 1, 1), (0, 0, 0), (2,), (), True]
 """
 
+PART_5 = """
+>>> from holerows.rows import rests_of, judge_rows, rows_hold, near_cone, lids_of
+>>> [judge_rows((4, 5, 1), (0, 1, 0)), near_cone((4, 5, 1), (0, 1, 0)), lids_of((4, 5, 1), (0, 1, 0))]
+[('fits', (1, 3, 1, 0)), ((0, 1, 2), (0, 3), (1, 3)), ((1, 3),)]
+>>> [judge_rows((4, 5, 1), (0, 0, 0)), rests_of((3, 3), (0, 1)), judge_rows((2, 1), (1, 1)), near_cone((3,), (2,))]
+[('sum', 0), (1, 2, 0), ('size', 1), ((0,), (1,), (2,))]
+>>> [judge_rows((4, 3, 1), (1, 0, 0)), judge_rows((4, 4, 3), (0, 0, 2)), rows_hold((4, 4, 3), (0, 0, 2), ('size', 2))]
+[('fits', (1, 2, 1, 0)), ('size', 2), True]
+"""
+
+PART_6 = """
+>>> from holerows.ends import least_rests, most_holes, least_holes, least_counts, many_hole_rows, all_hole_rows, has_hole_row
+>>> [least_rests((4, 5, 1)), most_holes((4, 5, 1)), least_holes((4, 5, 1)), many_hole_rows((4, 5, 1))]
+[(1, 3, 1, 0), (0, 1, 0), (0, 1, 0), 1]
+>>> [all_hole_rows((3, 3)), has_hole_row((4, 3), (1, 1)), has_hole_row((4, 3), (0, 1)), least_counts((0, 1)), least_counts((1, 0, 1)), least_counts(())]
+[((0, 1),), True, False, (3, 3), (5, 6, 4), (1,)]
+>>> from holerows.ends import join_counts, join_holes
+>>> [join_counts((2,), (2,)), join_holes((1,), (1,)), join_counts((), (3, 3)), join_holes((0, 1), (2,))]
+[(4, 4), (0, 1), (3, 3), (0, 0, 2)]
+"""
+
+PART_7 = """
+>>> from holerows.products import product_number, product_at, divisors_of, row_of, pushed_order, is_order
+>>> [product_number((0, 1, 1)), product_at(2, 4), divisors_of((0, 1, 1)), row_of(((), (0,), (0, 0), (1,))), is_order(((), (0, 1)))]
+[2, (1, 2), ((0, 1), (1, 1)), (1, 2, 1), False]
+>>> pushed_order(((), (0,), (1,), (1, 1)), 0, 1)
+((), (0,), (0, 0), (1,))
+>>> from holerows.productrows import judge_row, row_holds, first_order, h_row, counts_of_h, most_behind
+>>> [judge_row((1, 3, 4, 2)), judge_row((1, 2, 4)), first_order((1, 2, 1)), row_holds((1, 0, 1), ('degree', 1))]
+[('fits', (6, 5)), ('degree', 1), ((), (0,), (0, 0), (1,)), True]
+>>> [h_row((4, 5, 2)), counts_of_h((1, 1, 0, 0)), most_behind(3, 2, 2), h_row(())]
+[(1, 1, 0, 0), (4, 5, 2), 5, (1,)]
+"""
+
 
 def shown(code, names):
     """What the document shows for a row of code: its value, or the error that it raises."""
@@ -87,6 +121,15 @@ class Examples(unittest.TestCase):
 
     def test_part_4(self):
         self.check(PART_4)
+
+    def test_part_5(self):
+        self.check(PART_5)
+
+    def test_part_6(self):
+        self.check(PART_6)
+
+    def test_part_7(self):
+        self.check(PART_7)
 
     def test_readme(self):
         readme = pathlib.Path(__file__).resolve().parent.parent / "README.md"

@@ -11,15 +11,11 @@ from holerows.firsts import (
     counts_hold, first_family, first_sets, is_counts, judge_counts, set_at, set_number, shadow_of,
 )
 from plain import (
-    NO_INTEGERS, NO_SIZES, NO_WHOLES, PARTS, Raises, error_of, families_of, is_plain_family, is_plain_integer,
+    NO_INTEGERS, NO_SIZES, NO_WHOLES, PARTS, Raises, error_of, families_of, is_plain_counts, is_plain_family,
     is_plain_set, many_families, plain_listing, points_number, spoiled,
 )
 
 GREAT = 10 ** 30
-
-
-def is_plain_counts(thing):
-    return type(thing) is tuple and len(thing) <= 16 and all(is_plain_integer(part, 1) for part in thing)
 
 
 def plain_certificates(counts):

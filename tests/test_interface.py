@@ -69,7 +69,46 @@ INTERFACE = {
         "hole_pairs": ["family", "p", "size"],
         "pairs_hold": ["family", "p", "size", "thing"],
     },
+    "holerows.rows": {
+        "rests_of": ["counts", "holes"],
+        "judge_rows": ["counts", "holes"],
+        "rows_hold": ["counts", "holes", "thing"],
+        "near_cone": ["counts", "holes"],
+        "lids_of": ["counts", "holes"],
+    },
+    "holerows.ends": {
+        "least_rests": ["counts"],
+        "most_holes": ["counts"],
+        "least_holes": ["counts"],
+        "has_hole_row": ["counts", "thing"],
+        "many_hole_rows": ["counts"],
+        "all_hole_rows": ["counts"],
+        "least_counts": ["holes"],
+        "join_counts": ["one", "other"],
+        "join_holes": ["one", "other"],
+    },
+    "holerows.products": {
+        "is_product": ["thing"],
+        "is_order": ["thing"],
+        "product_number": ["product"],
+        "divisors_of": ["product"],
+        "product_at": ["degree", "number"],
+        "row_of": ["order"],
+        "is_low_order": ["order"],
+        "pushed_order": ["order", "i", "j"],
+    },
+    "holerows.productrows": {
+        "judge_row": ["row"],
+        "row_holds": ["row", "thing"],
+        "first_order": ["row"],
+        "h_row": ["counts"],
+        "counts_of_h": ["numbers"],
+        "most_behind": ["number", "degree", "steps"],
+    },
 }
+
+# The parameters behind a star, which are passed by name only, and their values if they are left out.
+BY_NAME_ONLY = {"all_hole_rows": {"most": 200}}
 
 # For each function: arguments that are right, and what comes.
 RIGHT = {
@@ -120,6 +159,34 @@ RIGHT = {
     "holes_of": ((((0, 1), (2,)), 2), (1, 0)),
     "hole_pairs": ((((0, 1), (2,)), 2, 2), ((), ())),
     "pairs_hold": ((((0, 1), (2,)), 2, 2, ((), ())), True),
+    "rests_of": (((4, 5, 1), (0, 1, 0)), (1, 3, 1, 0)),
+    "judge_rows": (((4, 5, 1), (0, 1, 0)), ("fits", (1, 3, 1, 0))),
+    "rows_hold": (((4, 4, 3), (0, 0, 2), ("size", 2)), True),
+    "near_cone": (((4, 5, 1), (0, 1, 0)), ((0, 1, 2), (0, 3), (1, 3))),
+    "lids_of": (((4, 5, 1), (0, 1, 0)), ((1, 3),)),
+    "least_rests": (((4, 5, 1),), (1, 3, 1, 0)),
+    "most_holes": (((4, 5, 1),), (0, 1, 0)),
+    "least_holes": (((4, 3),), (0, 0)),
+    "has_hole_row": (((4, 3), (1, 1)), True),
+    "many_hole_rows": (((4, 3),), 2),
+    "all_hole_rows": (((4, 3),), ((0, 0), (1, 1))),
+    "least_counts": (((1, 0, 1),), (5, 6, 4)),
+    "join_counts": (((3, 3), (1,)), (4, 6, 3)),
+    "join_holes": (((0, 1), (2,)), (0, 0, 2)),
+    "is_product": (((0, 0, 2),), True),
+    "is_order": ((((), (0,), (0, 0)),), True),
+    "product_number": (((0, 1, 1),), 2),
+    "divisors_of": (((0, 1, 1),), ((0, 1), (1, 1))),
+    "product_at": ((2, 4), (1, 2)),
+    "row_of": ((((), (0,), (0, 0), (1,)),), (1, 2, 1)),
+    "is_low_order": ((((), (0,), (0, 0), (1,)),), True),
+    "pushed_order": ((((), (1,), (1, 1)), 0, 1), ((), (0,), (0, 0))),
+    "judge_row": (((1, 3, 4, 2),), ("fits", (6, 5))),
+    "row_holds": (((1, 0, 1), ("degree", 1)), True),
+    "first_order": (((1, 2, 1),), ((), (0,), (0, 0), (1,))),
+    "h_row": (((4, 5, 2),), (1, 1, 0, 0)),
+    "counts_of_h": (((1, 1, 0, 0),), (4, 5, 2)),
+    "most_behind": ((3, 2, 2), 5),
 }
 
 
@@ -137,13 +204,18 @@ class Interface(unittest.TestCase):
             self.assertEqual(function.__module__, module)
             self.assertEqual(function.__name__, name)
 
-    def test_parameters_have_their_names_and_no_defaults(self):
+    def test_parameters_have_their_names_and_defaults(self):
         for _, name, parameters, function in interface():
             told = inspect.signature(function).parameters
-            self.assertEqual(list(told), parameters, name)
+            by_name = BY_NAME_ONLY.get(name, {})
+            self.assertEqual(list(told), parameters + list(by_name), name)
             for parameter in told.values():
-                self.assertIs(parameter.kind, inspect.Parameter.POSITIONAL_OR_KEYWORD)
-                self.assertIs(parameter.default, inspect.Parameter.empty)
+                if parameter.name in by_name:
+                    self.assertIs(parameter.kind, inspect.Parameter.KEYWORD_ONLY)
+                    self.assertEqual(parameter.default, by_name[parameter.name])
+                else:
+                    self.assertIs(parameter.kind, inspect.Parameter.POSITIONAL_OR_KEYWORD)
+                    self.assertIs(parameter.default, inspect.Parameter.empty)
 
     def test_by_position_and_by_name(self):
         for _, name, parameters, function in interface():
