@@ -15,9 +15,11 @@ from plain import (
 RING = ((0, 1), (0, 2), (1, 2))
 AROUND = (((0, 1), 1), ((0, 2), -1), ((1, 2), 1))
 EIGHT_LONE = tuple((point,) for point in range(8))
+EIGHT_IN_ONE = (tuple(range(8)),)
 SIX_TRIPLES = tuple(combinations(range(6), 3))
 FAMILIES = [family for family in many_families() if points_number(family) < 9] + [FOLDED, OVER_3_ALONE]
-FEW = [family for family in some_families() if points_number(family) < 9] + [FOLDED, OVER_3_ALONE, SIX_TRIPLES]
+FEW = [family for family in some_families() if points_number(family) < 9]
+FEW.extend([FOLDED, OVER_3_ALONE, SIX_TRIPLES, EIGHT_LONE, EIGHT_IN_ONE])
 WRONG_FIELDS = NO_INTEGERS + (1, 4, 6, 8, 9, 11, -1, -2, 10 ** 39, 2.0)
 
 
@@ -36,13 +38,8 @@ def some_chain(chance, faces, p, size):
     return tuple(sorted((face, some_number(chance, p)) for face in picked))
 
 
-def around_triples(p, triples):
-    """Cycles of the size 2, one around each triple, also where the triple is no face."""
-    return [plain_rim(p, ((triple, 1),)) for triple in triples]
-
-
 def some_cycles(chance, family, p):
-    """Cycles of all sizes: rims, sums of walks around triples, and rims of what is no face."""
+    """Cycles of all sizes: sums of rims of faces, and of rims of what is no face but has a rim of faces."""
     faces = face_tuples(family)
     points = range(points_number(family))
     for size in range(1, greatest(family) + 1):

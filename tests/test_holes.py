@@ -20,7 +20,8 @@ EIGHT_IN_ONE = (tuple(range(8)),)
 # Seven points, all pairs of them, and a ring of triples: a torus.
 TORUS = tuple(sorted(tuple(sorted((k + step) % 7 for k in part)) for step in range(7) for part in ((0, 1, 3), (0, 2, 3))))
 FAMILIES = many_families() + [FOLDED, OVER_3_ALONE, TORUS]
-FEW = [family for family in some_families() if points_number(family) < 9] + [FOLDED, OVER_3_ALONE, TORUS]
+FEW = [family for family in some_families() if points_number(family) < 9]
+FEW.extend([FOLDED, OVER_3_ALONE, TORUS, EIGHT_LONE, EIGHT_IN_ONE])
 WRONG_FIELDS = NO_INTEGERS + (1, 4, 6, 8, 9, 11, -1, -2, 10 ** 39)
 
 
