@@ -21,7 +21,7 @@ def link_of(family, face):
     """What makes faces together with a face and has no point of it, as (points, inner)."""
     if not is_face(family, face):
         raise BadFace(face)
-    return pair_of([points_without(facet, face) for facet in family if lies_within(face, facet)])
+    return link_within(family, face)
 
 
 def without(family, face):
@@ -93,6 +93,11 @@ def renamed(family, names):
         raise BadNames(names)
     facets = [tuple(sorted([names[point] for point in facet])) for facet in family]
     return tuple(sorted(facets))
+
+
+def link_within(family, face):
+    """The link of a face as (points, inner)."""
+    return pair_of([points_without(facet, face) for facet in family if lies_within(face, facet)])
 
 
 def pair_of(sets):

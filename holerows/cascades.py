@@ -71,18 +71,23 @@ def check_size(size):
 
 def greatest_top(number, size):
     """The greatest a for which C(a, size) is not above a number from 1 on."""
+    return greatest_within(number, size, lambda top: comb(top, size))
+
+
+def greatest_within(number, least, count):
+    """The greatest a, from the least one on, whose count, which grows with a, is not above a number."""
     low = 0
     high = 1
-    while comb(size + high, size) <= number:
+    while count(least + high) <= number:
         low = high
         high = 2 * high
     while high - low > 1:
         middle = (low + high) // 2
-        if comb(size + middle, size) <= number:
+        if count(least + middle) <= number:
             low = middle
         else:
             high = middle
-    return size + low
+    return least + low
 
 
 def moved_sum(size, cascade, more_things, more_size):

@@ -1,8 +1,9 @@
 """What the tests share: values of many kinds, many families, and plain looks at all sets."""
 
 import random
-from functools import cmp_to_key
-from itertools import combinations, combinations_with_replacement
+from functools import cmp_to_key, lru_cache
+from itertools import combinations, combinations_with_replacement, product
+from math import comb
 
 
 def deep(depth, core):
@@ -297,6 +298,7 @@ def plain_rims(faces, p, size):
     return [plain_rim(p, ((face, 1),)) for face in sorted(faces) if len(face) == size]
 
 
+@lru_cache(maxsize=None)
 def plain_holes(family, p):
     faces = face_tuples(family)
     greatest = max(map(len, faces))
@@ -347,6 +349,55 @@ def some_orders():
                 order.add(row)
         orders.append(tuple(sorted(order)))
     return orders
+
+
+def plain_h(counts):
+    f = (1,) + counts
+    d = len(counts)
+    return tuple(sum((-1) ** (j - i) * comb(d - i, j - i) * f[i] for i in range(j + 1)) for j in range(d + 1))
+
+
+@lru_cache(maxsize=None)
+def plain_link(family, face):
+    """The link of a face, its points called by their places."""
+    faces = plain_faces(family)
+    return plain_pair({other for other in faces if not other & set(face) and other | set(face) in faces})[1]
+
+
+def plain_skeleton(family, size):
+    return plain_facets({face for face in plain_faces(family) if len(face) <= size})
+
+
+@lru_cache(maxsize=None)
+def plain_low_holes(family, p):
+    """All (face, k) for which the link of a face has a hole of a dimension k below its greatest one."""
+    found = []
+    for face in sorted(face_tuples(family)):
+        holes = plain_holes(plain_link(family, face), p)
+        found.extend((face, k) for k in range(len(holes) - 1) if holes[k])
+    return tuple(found)
+
+
+def plain_depth(family, p):
+    """The greatest size of a skeleton that is sound; that those of lower sizes are is looked at, too."""
+    sizes = range(1, max(map(len, family), default=0) + 1)
+    sound = [not plain_low_holes(plain_skeleton(family, size), p) for size in sizes]
+    assert sound == sorted(sound, reverse=True)
+    return sum(sound)
+
+
+def is_plain_colouring(family, r, thing):
+    if type(thing) is not tuple or len(thing) != points_number(family):
+        return False
+    if not all(is_plain_integer(colour, 0) and colour < r for colour in thing):
+        return False
+    return all(thing[i] != thing[j] for facet in family for i, j in combinations(facet, 2))
+
+
+def has_plain_colouring(family, r):
+    """Whether some of all choices of colours is a colouring, for few points."""
+    choices = product(range(r), repeat=points_number(family))
+    return any(is_plain_colouring(family, r, colours) for colours in choices)
 
 
 def error_of(call, *args, **named):

@@ -1,4 +1,4 @@
-"""The examples of the document's parts 1 to 7, as they stand there, and those of README.md."""
+"""The examples of the document's parts 1 to 9, as they stand there, and those of README.md."""
 
 import doctest
 import pathlib
@@ -89,6 +89,30 @@ PART_7 = """
 [(1, 1, 0, 0), (4, 5, 2), 5, (1,)]
 """
 
+PART_8 = """
+>>> from holerows.sound import is_sound, judge_sound, sound_holds, depth_of, judge_sound_counts, pure_first
+>>> [is_sound(((0, 1), (1, 2)), 2), sound_holds(((0, 1), (2, 3)), 0, ('face', (), 0)), depth_of(((0, 1, 2), (2, 3)), 2), judge_sound(((0,), (1,)), 5)]
+[True, True, 2, ('sound',)]
+>>> [judge_sound_counts((4, 5, 2)), judge_sound_counts((3, 1)), pure_first((4, 4)), pure_first((4, 5, 2))]
+[('fits', (1, 1, 0, 0)), ('below', 2), ((0, 1), (0, 2), (0, 3), (1, 2)), ((0, 1, 2), (0, 1, 3))]
+>>> from holerows.shellings import is_shelling, new_faces, a_shelling
+>>> [is_shelling(((0, 1), (0, 2), (1, 3)), ((0, 1), (0, 2), (1, 3))), is_shelling(((0, 1), (2, 3)), ((0, 1), (2, 3))), new_faces(((0, 1), (0, 2), (1, 2)), ((0, 1), (0, 2), (1, 2))), a_shelling(((0, 1), (2, 3)))]
+[True, False, ((), (2,), (1, 2)), None]
+"""
+
+PART_9 = """
+>>> from holerows.colours import lower_spread, spread_cascade, judge_colours, first_coloured, is_colouring, a_colouring, colours_hold
+>>> [spread_cascade(5, 2, 2), lower_spread(5, 2, 2), lower_spread(5, 2, 3), lower_spread(5, 2, 4)]
+[(4, 1), 5, 4, 4]
+>>> [judge_colours((3, 3), 2), judge_colours((4, 4), 2), colours_hold((3, 3, 1), 2, ('size', 2)), first_coloured((4, 4), 2)]
+[('size', 1), ('fits', (4,)), True, ((0, 1), (0, 3), (1, 2), (2, 3))]
+>>> [is_colouring(((0, 1), (1, 2)), 2, (0, 1, 0)), a_colouring(((0, 1), (0, 2), (1, 2)), 2), colours_hold((3, 3), 2, ('size', 1))]
+[True, None, True]
+>>> from holerows.balanced import full_family, judge_balanced, first_balanced, balanced_hold
+>>> [full_family(((0, 1), (0, 2), (1, 2), (2, 3))), judge_balanced((4, 4)), judge_balanced((3, 3)), first_balanced((4, 4)), balanced_hold((3, 3), ('size', 1))]
+[((0, 1, 2), (2, 3)), ('fits', (1, 2, 1)), ('size', 1), ((0, 1), (0, 3), (1, 2), (2, 3)), True]
+"""
+
 
 def shown(code, names):
     """What the document shows for a row of code: its value, or the error that it raises."""
@@ -130,6 +154,12 @@ class Examples(unittest.TestCase):
 
     def test_part_7(self):
         self.check(PART_7)
+
+    def test_part_8(self):
+        self.check(PART_8)
+
+    def test_part_9(self):
+        self.check(PART_9)
 
     def test_readme(self):
         readme = pathlib.Path(__file__).resolve().parent.parent / "README.md"

@@ -105,6 +105,35 @@ INTERFACE = {
         "counts_of_h": ["numbers"],
         "most_behind": ["number", "degree", "steps"],
     },
+    "holerows.sound": {
+        "is_sound": ["family", "p"],
+        "judge_sound": ["family", "p"],
+        "sound_holds": ["family", "p", "thing"],
+        "depth_of": ["family", "p"],
+        "judge_sound_counts": ["counts"],
+        "sound_counts_hold": ["counts", "thing"],
+        "pure_first": ["counts"],
+    },
+    "holerows.shellings": {
+        "is_shelling": ["family", "thing"],
+        "new_faces": ["family", "facets"],
+        "a_shelling": ["family"],
+    },
+    "holerows.colours": {
+        "lower_spread": ["number", "size", "r"],
+        "spread_cascade": ["number", "size", "r"],
+        "judge_colours": ["counts", "r"],
+        "colours_hold": ["counts", "r", "thing"],
+        "first_coloured": ["counts", "r"],
+        "is_colouring": ["family", "r", "thing"],
+        "a_colouring": ["family", "r"],
+    },
+    "holerows.balanced": {
+        "full_family": ["family"],
+        "judge_balanced": ["counts"],
+        "balanced_hold": ["counts", "thing"],
+        "first_balanced": ["counts"],
+    },
 }
 
 # The parameters behind a star, which are passed by name only, and their values if they are left out.
@@ -187,6 +216,27 @@ RIGHT = {
     "h_row": (((4, 5, 2),), (1, 1, 0, 0)),
     "counts_of_h": (((1, 1, 0, 0),), (4, 5, 2)),
     "most_behind": ((3, 2, 2), 5),
+    "is_sound": ((((0, 1), (2, 3)), 5), False),
+    "judge_sound": ((((0, 1), (2, 3)), 2), ("face", (), 0)),
+    "sound_holds": ((((0, 1), (2, 3)), 3, ("face", (), 0)), True),
+    "depth_of": ((((0, 1, 2), (2, 3)), 2), 2),
+    "judge_sound_counts": (((3, 1),), ("below", 2)),
+    "sound_counts_hold": (((3, 1), ("below", 2)), True),
+    "pure_first": (((4, 5, 2),), ((0, 1, 2), (0, 1, 3))),
+    "is_shelling": ((((0, 1), (2, 3)), ((0, 1), (2, 3))), False),
+    "new_faces": ((((0, 1), (0, 2)), ((0, 2), (0, 1))), ((), (1,))),
+    "a_shelling": ((((0, 1), (2, 3)),), None),
+    "lower_spread": ((5, 2, 3), 4),
+    "spread_cascade": ((5, 2, 2), (4, 1)),
+    "judge_colours": (((3, 3), 2), ("size", 1)),
+    "colours_hold": (((3, 3, 1), 2, ("size", 2)), True),
+    "first_coloured": (((4, 4), 2), ((0, 1), (0, 3), (1, 2), (2, 3))),
+    "is_colouring": ((((0, 1), (1, 2)), 2, (0, 1, 0)), True),
+    "a_colouring": ((((0, 1), (0, 2), (1, 2)), 2), None),
+    "full_family": ((((0, 1), (0, 2), (1, 2), (2, 3)),), ((0, 1, 2), (2, 3))),
+    "judge_balanced": (((3, 3),), ("size", 1)),
+    "balanced_hold": (((4, 4), ("fits", (1, 2, 1))), True),
+    "first_balanced": (((4, 4),), ((0, 1), (0, 3), (1, 2), (2, 3))),
 }
 
 

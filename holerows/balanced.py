@@ -1,0 +1,80 @@
+"""Full families, and the counts of sound families with as many colours as a facet has points."""
+
+from itertools import combinations
+
+from holerows.colours import first_coloured, lower_spread
+from holerows.errors import NotFit, TooGreat
+from holerows.families import (
+    MOST_POINTS,
+    check_family,
+    faces_at,
+    greatest_size,
+    is_face_within,
+    mask_of,
+    outermost_of,
+    points_in,
+    points_of,
+)
+from holerows.productrows import h_row
+from holerows.values import is_just
+
+
+def full_family(family):
+    """The family of all sets of points any two of which make a face."""
+    check_family(family)
+    full = mask_of(points_in(family))
+    return outermost_of([mask for mask in range(full + 1) if are_pairs_faces(family, points_of(mask))])
+
+
+def judge_balanced(counts):
+    """A certificate that some balanced family has these counts, or that none has."""
+    return balanced_certificates(counts)[0]
+
+
+def balanced_hold(counts, thing):
+    """Whether any value is a certificate for the counts."""
+    return any([is_just(thing, right) for right in balanced_certificates(counts)])
+
+
+def first_balanced(counts):
+    """The balanced family with a facet for each face of the first coloured family of the row h."""
+    certificate = judge_balanced(counts)
+    if certificate[0] != "fits":
+        raise NotFit(certificate)
+    if len(counts) == 0:
+        return ()
+    if counts[0] > MOST_POINTS:
+        raise TooGreat(counts[0])
+    size = len(counts)
+    inner = first_coloured(counts_behind(certificate[1]), size)
+    faces = [face for many in range(greatest_size(inner) + 1) for face in faces_at(inner, many)]
+    return tuple(sorted([facet_over(face, size) for face in faces]))
+
+
+def are_pairs_faces(family, points):
+    """Whether any two of some points make a face."""
+    return all([is_face_within(family, pair) for pair in combinations(points, 2)])
+
+
+def balanced_certificates(counts):
+    """All certificates for the counts."""
+    row = h_row(counts)
+    below = [("below", j) for j, number in enumerate(row) if number < 0]
+    if len(below) > 0:
+        return below
+    size = len(counts)
+    faults = [("size", k) for k in range(1, size) if lower_spread(row[k + 1], k + 1, size) > row[k]]
+    if len(faults) > 0:
+        return faults
+    return [("fits", row)]
+
+
+def counts_behind(row):
+    """The numbers of a row behind the first one, up to the last one that is not 0."""
+    return tuple([number for number in row[1:] if number > 0])
+
+
+def facet_over(face, size):
+    """The facet of a size that stands for a face: its points moved up, and the colours that it lacks."""
+    colours = [point % size for point in face]
+    return tuple([colour for colour in range(size) if colour not in colours] + [point + size for point in face])
