@@ -5,6 +5,8 @@ from functools import cmp_to_key, lru_cache
 from itertools import combinations, combinations_with_replacement, product
 from math import comb
 
+from holerows.workshops import Workshop
+
 
 def deep(depth, core):
     """A value nested so deep, in tuples, lists and dicts by turns."""
@@ -14,12 +16,15 @@ def deep(depth, core):
     return thing
 
 
+SHOP = Workshop(((0, 1), (2,)))
+
 # Values that are no integer at all.
 NO_INTEGERS = (
     True, False, None, "", "0", "1", "01", "-", "a b\nc", "~ !", "x" * 1000,
     (), (0,), (1,), ((),), ((0,),), (True,), (None, "1"), (1, (2, [3])),
     [], [0], [1, 2], [[0]], [(0, 1)], {}, {0: 1}, {"a": [1, {"b": ()}]},
     deep(3, 1), deep(9, 0), deep(10, ()), (0,) * 3000, ["a"] * 2999,
+    SHOP, Workshop(()), (SHOP,), [SHOP, 0], {"a": SHOP}, (SHOP, Workshop(())), deep(9, SHOP),
 )
 
 # Values that are no integer from 0 on, and none from 1 on.
@@ -30,7 +35,7 @@ NO_SIZES = NO_WHOLES + (0,)
 PARTS = (
     True, False, None, "", "0", -1, 0, 1, 2, 8, 9, 10, 10 ** 39, -(10 ** 39),
     (), (0,), (1,), (0, 1), (1, 0), (0, 0), (True,), (False, True), ((0,),),
-    [], [0], [0, 1], {}, {0: 1}, deep(7, 0),
+    [], [0], [0, 1], {}, {0: 1}, deep(7, 0), SHOP, (SHOP,),
 )
 
 
@@ -351,10 +356,32 @@ def some_orders():
     return orders
 
 
+def plain_flipped(family, face, other):
+    """The family behind a flip, its points called by their places."""
+    faces = plain_faces(family)
+    left = {part for part in faces if not frozenset(face) <= part}
+    left |= {part | set(other) for part in all_sets(face) if part != frozenset(face)}
+    # What lies within the sets that come were faces before, or is now one together with them.
+    left |= {part for whole in left for part in all_sets(whole)}
+    points = sorted(frozenset().union(*left))
+    return plain_facets({frozenset(points.index(point) for point in part) for part in left})
+
+
 def plain_h(counts):
     f = (1,) + counts
     d = len(counts)
     return tuple(sum((-1) ** (j - i) * comb(d - i, j - i) * f[i] for i in range(j + 1)) for j in range(d + 1))
+
+
+def plain_g(counts):
+    h = plain_h(counts)
+    return (1,) + tuple(h[i] - h[i - 1] for i in range(1, len(counts) // 2 + 1))
+
+
+def plain_back(h):
+    """The counts that have this row h."""
+    d = len(h) - 1
+    return tuple(sum(comb(d - i, j - i) * h[i] for i in range(j + 1)) for j in range(1, d + 1))
 
 
 @lru_cache(maxsize=None)
@@ -375,6 +402,19 @@ def plain_low_holes(family, p):
     for face in sorted(face_tuples(family)):
         holes = plain_holes(plain_link(family, face), p)
         found.extend((face, k) for k in range(len(holes) - 1) if holes[k])
+    return tuple(found)
+
+
+@lru_cache(maxsize=None)
+def plain_bad_faces(family, p):
+    """All faces of fewer points than the greatest facets whose link has not just the hole of a sphere."""
+    d = max(map(len, family))
+    found = []
+    for face in sorted(face_tuples(family)):
+        left = d - len(face)
+        link = plain_link(family, face)
+        if left and (set(map(len, link)) != {left} or plain_holes(link, p) != (0,) * (left - 1) + (1,)):
+            found.append(face)
     return tuple(found)
 
 

@@ -1,4 +1,4 @@
-"""The examples of the document's parts 1 to 9, as they stand there, and those of README.md."""
+"""The examples of the document's parts 1 to 12, as they stand there, and those of README.md."""
 
 import doctest
 import pathlib
@@ -113,6 +113,38 @@ PART_9 = """
 [((0, 1, 2), (2, 3)), ('fits', (1, 2, 1)), ('size', 1), ((0, 1), (0, 3), (1, 2), (2, 3)), True]
 """
 
+PART_10 = """
+>>> from holerows.spheres import is_round, judge_sphere, round_holds, first_ball, first_sphere, least_sphere, most_sphere, sphere_holds
+>>> [is_round(((0, 1), (0, 2), (1, 2)), 2), round_holds(((0, 1), (1, 2)), 3, ('face', (0,))), is_round(((0,), (1,)), 0)]
+[True, True, True]
+>>> [judge_sphere((4, 6, 4)), judge_sphere((5, 9, 6)), judge_sphere((5, 8, 5)), sphere_holds((3, 2), ('unequal', 0)), first_sphere((4, 4))]
+[('fits', (1, 0)), ('fits', (1, 1)), ('unequal', 1), True, ((0, 1), (0, 3), (1, 2), (2, 3))]
+>>> [first_ball((5, 9, 6)), first_sphere((5, 9, 6)), least_sphere(7, 4), most_sphere(7, 4)]
+[((0, 1, 2, 3), (0, 1, 3, 4)), ((0, 1, 2), (0, 1, 4), (0, 2, 3), (0, 3, 4), (1, 2, 3), (1, 3, 4)), (7, 18, 22, 11), (7, 21, 28, 14)]
+>>> from holerows.flips import flips_of, flipped
+>>> [flips_of(((0, 1), (0, 2), (1, 2))), flipped(((0, 1), (0, 2), (1, 2)), (0, 1), (3,))]
+[(((0, 1), (3,)), ((0, 2), (3,)), ((1, 2), (3,))), ((0, 2), (0, 3), (1, 2), (1, 3))]
+"""
+
+PART_11 = """
+>>> from holerows.asks import is_ask, is_answer, answers, sum_number, ends_of
+>>> [is_ask(('sets', (4, None, 1))), is_ask(('sets', (4, 5))), is_answer(('sets', (4, None, 1)), (5,)), answers(('sets', (4, None, 1)), 9)]
+[True, False, True, ((3,), (4,), (5,), (6,))]
+>>> [ends_of(('sets', (4, None, 1))), ends_of(('sets', (None, 5))), ends_of(('products', (1, 3, None, 2))), sum_number(('holes', (4, 5, 1), (0, None, 0))), answers(('holes', (4, None), (0, None)), 6)]
+[(3, 6), (4, None), (2, 6), 1, ((3, 0), (4, 1), (5, 2), (6, 3))]
+"""
+
+PART_12 = """
+>>> from holerows.workshops import Workshop
+>>> shop = Workshop(((0, 1), (0, 2), (1, 2)))
+>>> shop.do(('put', (1, 2, 3)))
+>>> [shop.family(), shop.counts(), shop.holes(2), str(shop), shop.is_most()]
+[((0, 1), (0, 2), (1, 2, 3)), (4, 5, 1), (0, 1, 0), 'workshop 01 02 123', True]
+>>> shop.undo()
+>>> [shop.family(), Workshop.read('workshop -').counts()]
+[((0, 1), (0, 2), (1, 2)), ()]
+"""
+
 
 def shown(code, names):
     """What the document shows for a row of code: its value, or the error that it raises."""
@@ -160,6 +192,15 @@ class Examples(unittest.TestCase):
 
     def test_part_9(self):
         self.check(PART_9)
+
+    def test_part_10(self):
+        self.check(PART_10)
+
+    def test_part_11(self):
+        self.check(PART_11)
+
+    def test_part_12(self):
+        self.check(PART_12)
 
     def test_readme(self):
         readme = pathlib.Path(__file__).resolve().parent.parent / "README.md"

@@ -6,6 +6,8 @@ import inspect
 import pathlib
 import unittest
 
+from holerows.workshops import Workshop
+
 PACKAGE = pathlib.Path(__file__).resolve().parent.parent / "holerows"
 
 INTERFACE = {
@@ -134,10 +136,32 @@ INTERFACE = {
         "balanced_hold": ["counts", "thing"],
         "first_balanced": ["counts"],
     },
+    "holerows.spheres": {
+        "is_round": ["family", "p"],
+        "judge_round": ["family", "p"],
+        "round_holds": ["family", "p", "thing"],
+        "judge_sphere": ["counts"],
+        "sphere_holds": ["counts", "thing"],
+        "first_ball": ["counts"],
+        "first_sphere": ["counts"],
+        "least_sphere": ["n", "d"],
+        "most_sphere": ["n", "d"],
+    },
+    "holerows.flips": {
+        "flips_of": ["family"],
+        "flipped": ["family", "face", "other"],
+    },
+    "holerows.asks": {
+        "is_ask": ["thing"],
+        "is_answer": ["ask", "thing"],
+        "answers": ["ask", "greatest"],
+        "sum_number": ["ask"],
+        "ends_of": ["ask"],
+    },
 }
 
 # The parameters behind a star, which are passed by name only, and their values if they are left out.
-BY_NAME_ONLY = {"all_hole_rows": {"most": 200}}
+BY_NAME_ONLY = {"all_hole_rows": {"most": 200}, "answers": {"most": 200}}
 
 # For each function: arguments that are right, and what comes.
 RIGHT = {
@@ -237,6 +261,39 @@ RIGHT = {
     "judge_balanced": (((3, 3),), ("size", 1)),
     "balanced_hold": (((4, 4), ("fits", (1, 2, 1))), True),
     "first_balanced": (((4, 4),), ((0, 1), (0, 3), (1, 2), (2, 3))),
+    "is_round": ((((0, 1), (1, 2)), 2), False),
+    "judge_round": ((((0, 1), (0, 2), (1, 2)), 7), ("round",)),
+    "round_holds": ((((0, 1), (1, 2)), 3, ("face", (0,))), True),
+    "judge_sphere": (((5, 8, 5),), ("unequal", 1)),
+    "sphere_holds": (((5, 9, 6), ("fits", (1, 1))), True),
+    "first_ball": (((5, 9, 6),), ((0, 1, 2, 3), (0, 1, 3, 4))),
+    "first_sphere": (((4, 4),), ((0, 1), (0, 3), (1, 2), (2, 3))),
+    "least_sphere": ((7, 4), (7, 18, 22, 11)),
+    "most_sphere": ((7, 4), (7, 21, 28, 14)),
+    "flips_of": ((((0, 1), (0, 2), (1, 2)),), (((0, 1), (3,)), ((0, 2), (3,)), ((1, 2), (3,)))),
+    "flipped": ((((0, 1), (0, 2), (1, 2)), (0, 1), (3,)), ((0, 2), (0, 3), (1, 2), (1, 3))),
+    "is_ask": ((("sets", (4, 5)),), False),
+    "is_answer": ((("sets", (4, None, 1)), (5,)), True),
+    "answers": ((("sets", (4, None, 1)), 5), ((3,), (4,), (5,))),
+    "sum_number": ((("holes", (4, 5, 1), (0, None, 0)),), 1),
+    "ends_of": ((("products", (1, 3, None, 2)),), (2, 6)),
+}
+
+# The methods of the class Workshop and their parameters.
+METHODS = {
+    "__init__": ["self", "family"],
+    "__eq__": ["self", "other"],
+    "__str__": ["self"],
+    "read": ["text"],
+    "family": ["self"],
+    "deeds": ["self"],
+    "copy": ["self"],
+    "do": ["self", "deed"],
+    "undo": ["self"],
+    "redo": ["self"],
+    "counts": ["self"],
+    "holes": ["self", "p"],
+    "is_most": ["self"],
 }
 
 
@@ -276,6 +333,35 @@ class Interface(unittest.TestCase):
             for found in (function(*args), function(*args), function(**named), function(**backwards),
                           function(args[0], **mixed)):
                 self.assertEqual(repr(found), repr(answer), name)
+
+
+class Methods(unittest.TestCase):
+
+    def test_each_method_is_defined_in_the_class(self):
+        for name, parameters in METHODS.items():
+            self.assertIn(name, vars(Workshop))
+            told = inspect.signature(getattr(Workshop, name)).parameters
+            self.assertEqual(list(told), parameters, name)
+            for parameter in told.values():
+                self.assertIs(parameter.default, inspect.Parameter.empty)
+                self.assertIs(parameter.kind, inspect.Parameter.POSITIONAL_OR_KEYWORD)
+        self.assertIsInstance(vars(Workshop)["read"], classmethod)
+        self.assertEqual([Workshop.__module__, Workshop.__bases__], ["holerows.workshops", (object,)])
+
+    def test_by_position_and_by_name(self):
+        shop = Workshop(family=((0, 1), (0, 2), (1, 2)))
+        self.assertIsNone(shop.do(deed=("put", (1, 2, 3))))
+        self.assertIsNone(shop.do(("push", 0, 3)))
+        self.assertEqual(shop.deeds(), (("put", (1, 2, 3)), ("push", 0, 3)))
+        self.assertIsNone(shop.undo())
+        self.assertEqual(shop.family(), ((0, 1), (0, 2), (1, 2, 3)))
+        self.assertEqual([shop.counts(), shop.holes(2), shop.holes(p=2)], [(4, 5, 1), (0, 1, 0), (0, 1, 0)])
+        self.assertEqual([str(shop), shop.is_most()], ["workshop 01 02 123", True])
+        self.assertIsNone(shop.redo())
+        self.assertEqual(shop.family(), ((0, 1, 2), (1, 3), (2, 3)))
+        self.assertIs(shop.copy() == shop, True)
+        for read in (Workshop.read("workshop 0"), Workshop.read(text="workshop 0")):
+            self.assertEqual(read.family(), ((0,),))
 
 
 class Form(unittest.TestCase):

@@ -12,7 +12,7 @@ from holerows.productrows import counts_of_h, first_order, h_row, judge_row, mos
 from holerows.products import product_at, row_of
 from plain import (
     NO_INTEGERS, NO_SIZES, NO_WHOLES, PARTS, Raises, all_orders, error_of, is_plain_counts, is_plain_integer,
-    is_plain_order, many_families, plain_divisors, plain_h, some_orders, spoiled,
+    is_plain_order, many_families, plain_back, plain_divisors, plain_h, some_orders, spoiled,
 )
 
 GREAT = 10 ** 30
@@ -34,11 +34,6 @@ def plain_certificates(row):
 def is_plain_certificate(row, thing):
     """repr tells bools from integers and lists from tuples."""
     return repr(thing) in [repr(right) for right in plain_certificates(row)]
-
-
-def plain_back(h):
-    d = len(h) - 1
-    return tuple(sum(comb(d - i, j - i) * h[i] for i in range(j + 1)) for j in range(1, d + 1))
 
 
 def is_plain_h(thing):
