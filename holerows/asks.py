@@ -13,22 +13,15 @@ from holerows.values import are_integers_from, is_integer_from, is_just
 MOST_COLOURS = 8
 MOST_GAPS = 2
 
-# For each word of an ask the place of its first row and that of the last one.
-PLACES = {
-    "sets": (1, 1),
-    "sound": (1, 1),
-    "spheres": (1, 1),
-    "coloured": (2, 2),
-    "products": (1, 1),
-    "holes": (1, 2),
-}
+# For each word the number of the items of an ask, the word among them.
+ASKS = {"sets": 2, "sound": 2, "spheres": 2, "coloured": 3, "products": 2, "holes": 3}
 
 
 def is_ask(thing):
     """Whether any value is an ask."""
     if not isinstance(thing, tuple) or len(thing) == 0 or not isinstance(thing[0], str):
         return False
-    if thing[0] not in PLACES or len(thing) != PLACES[thing[0]][1] + 1:
+    if thing[0] not in ASKS or len(thing) != ASKS[thing[0]]:
         return False
     rows = rows_in(thing)
     if not all([is_gap_row(row) for row in rows]) or len(rows[0]) != len(rows[-1]):
@@ -81,9 +74,7 @@ def ends_of(ask):
         least, greatest = ends_of_sets(row, place)
     else:
         least, greatest = ends_of_products(row, place)
-    if greatest is not None and least > greatest:
-        return None
-    # Above the least number less is left to stand against it, so it is an answer if any one is.
+    # Of the numbers from it on the least one asks least of the item ahead, so it is an answer if any one is.
     if not is_fit(ask, (least,)):
         return None
     return least, greatest
@@ -104,8 +95,10 @@ def is_gap_row(thing):
 
 def rows_in(ask):
     """The rows of an ask."""
-    first, last = PLACES[ask[0]]
-    return ask[first:last + 1]
+    # Between the word "coloured" and its row stands the number of colours.
+    if ask[0] == "coloured":
+        return ask[2:]
+    return ask[1:]
 
 
 def many_gaps(ask):
@@ -162,7 +155,7 @@ def ends_of_sets(row, place):
     least = 1
     greatest = None
     if place + 1 < len(row):
-        least = max(1, lower_sets(row[place + 1], place + 2))
+        least = lower_sets(row[place + 1], place + 2)
     if place > 0:
         greatest = upper_sets(row[place - 1], place)
     return least, greatest

@@ -3,9 +3,7 @@
 from itertools import combinations
 
 from holerows.colours import first_coloured, lower_spread
-from holerows.errors import NotFit, TooGreat
 from holerows.families import (
-    MOST_POINTS,
     check_family,
     faces_at,
     greatest_size,
@@ -15,8 +13,9 @@ from holerows.families import (
     points_in,
     points_of,
 )
+from holerows.firsts import check_buildable
 from holerows.productrows import h_row
-from holerows.values import is_just
+from holerows.values import is_one_of
 
 
 def full_family(family):
@@ -33,18 +32,15 @@ def judge_balanced(counts):
 
 def balanced_hold(counts, thing):
     """Whether any value is a certificate for the counts."""
-    return any([is_just(thing, right) for right in balanced_certificates(counts)])
+    return is_one_of(thing, balanced_certificates(counts))
 
 
 def first_balanced(counts):
     """The balanced family with a facet for each face of the first coloured family of the row h."""
     certificate = judge_balanced(counts)
-    if certificate[0] != "fits":
-        raise NotFit(certificate)
+    check_buildable(counts, certificate)
     if len(counts) == 0:
         return ()
-    if counts[0] > MOST_POINTS:
-        raise TooGreat(counts[0])
     size = len(counts)
     inner = first_coloured(counts_behind(certificate[1]), size)
     faces = [face for many in range(greatest_size(inner) + 1) for face in faces_at(inner, many)]

@@ -74,16 +74,16 @@ def greatest_top(number, size):
     return greatest_within(number, size, lambda top: comb(top, size))
 
 
-def greatest_within(number, least, count):
+def greatest_within(number, least, count_at):
     """The greatest a, from the least one on, whose count, which grows with a, is not above a number."""
     low = 0
     high = 1
-    while count(least + high) <= number:
+    while count_at(least + high) <= number:
         low = high
         high = 2 * high
     while high - low > 1:
         middle = (low + high) // 2
-        if count(least + middle) <= number:
+        if count_at(least + middle) <= number:
             low = middle
         else:
             high = middle

@@ -3,10 +3,10 @@
 from math import comb
 
 from holerows.cascades import check_number, check_size, greatest_within
-from holerows.errors import BadColours, NotFit, TooGreat
+from holerows.errors import BadColours
 from holerows.families import MOST_POINTS, check_family, outermost, points_in
-from holerows.firsts import check_counts, sets_between
-from holerows.values import are_integers_from, is_integer_from, is_just
+from holerows.firsts import check_buildable, check_counts, sets_between
+from holerows.values import are_integers_from, is_integer_from, is_one_of
 
 
 def spread_cascade(number, size, r):
@@ -41,16 +41,12 @@ def judge_colours(counts, r):
 
 def colours_hold(counts, r, thing):
     """Whether any value is a certificate for the counts and r colours."""
-    return any([is_just(thing, right) for right in colours_certificates(counts, r)])
+    return is_one_of(thing, colours_certificates(counts, r))
 
 
 def first_coloured(counts, r):
     """The family of the first spread sets of each size."""
-    certificate = judge_colours(counts, r)
-    if certificate[0] != "fits":
-        raise NotFit(certificate)
-    if len(counts) > 0 and counts[0] > MOST_POINTS:
-        raise TooGreat(counts[0])
+    check_buildable(counts, judge_colours(counts, r))
     return outermost([face for k, many in enumerate(counts) for face in first_spread(k + 1, many, r)])
 
 

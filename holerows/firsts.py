@@ -5,7 +5,7 @@ from math import comb
 from holerows.cascades import cascade_of, check_number, check_size, lower_sets
 from holerows.errors import BadCounts, BadSet, BadSets, NotFit, TooGreat
 from holerows.families import MOST_POINTS, is_set, outermost
-from holerows.values import are_integers_from, is_just
+from holerows.values import are_integers_from, is_one_of
 
 MOST_COUNTS = 16
 
@@ -51,14 +51,12 @@ def judge_counts(counts):
 
 def counts_hold(counts, thing):
     """Whether any value is a certificate for the counts."""
-    return any([is_just(thing, right) for right in counts_certificates(counts)])
+    return is_one_of(thing, counts_certificates(counts))
 
 
 def first_family(counts):
     """The family of the first sets of each size."""
-    check_fit(counts)
-    if len(counts) > 0 and counts[0] > MOST_POINTS:
-        raise TooGreat(counts[0])
+    check_buildable(counts, judge_counts(counts))
     return outermost([face for k, many in enumerate(counts) for face in sets_between(k + 1, 0, many)])
 
 
@@ -91,6 +89,14 @@ def check_fit(counts):
     certificate = judge_counts(counts)
     if certificate[0] != "fits":
         raise NotFit(certificate)
+
+
+def check_buildable(counts, certificate):
+    """Raises an error if a certificate stands against the counts, or if they ask for too many points."""
+    if certificate[0] != "fits":
+        raise NotFit(certificate)
+    if len(counts) > 0 and counts[0] > MOST_POINTS:
+        raise TooGreat(counts[0])
 
 
 def counts_certificates(counts):

@@ -29,11 +29,11 @@ def flipped(family, face, other):
     check_sphere(family)
     if not is_flip(family, face, other):
         raise NoFlip((face, other))
-    # A point by itself is a face, so alone it comes as a new one.
-    if len(other) == 1 and other[0] >= MOST_FLIP_POINTS:
+    # Only a new point stands so high in a family of no more points.
+    if other[0] >= MOST_FLIP_POINTS:
         raise TooGreat(other[0] + 1)
     kept = [facet for facet in family if not lies_within(face, facet)]
-    put = [tuple(sorted(other + points_without(face, (point,)))) for point in face]
+    put = [other + points_without(face, (point,)) for point in face]
     # If the face is a single point, it is in none of these, and the points above it are renamed.
     _, inner = pair_of(kept + put)
     return inner

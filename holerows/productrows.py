@@ -6,7 +6,7 @@ from holerows.cascades import check_number, check_size, upper_products
 from holerows.errors import BadRow, NotFit, TooMany
 from holerows.firsts import MOST_COUNTS, check_counts
 from holerows.products import product_at
-from holerows.values import are_integers_from, is_integer, is_just
+from holerows.values import are_integers_from, is_integer, is_just, is_one_of
 
 MOST_PRODUCTS = 200
 
@@ -18,7 +18,7 @@ def judge_row(row):
 
 def row_holds(row, thing):
     """Whether any value is a certificate for the row."""
-    return any([is_just(thing, right) for right in row_certificates(row)])
+    return is_one_of(thing, row_certificates(row))
 
 
 def first_order(row):

@@ -1,10 +1,10 @@
 """Counts and holes that some family has, and the near-cone that has them."""
 
 from holerows.cascades import lower_sets
-from holerows.errors import BadHoles, NotFit, TooGreat
-from holerows.families import MOST_POINTS, outermost
-from holerows.firsts import check_some_counts, sets_between
-from holerows.values import are_integers_from, is_just
+from holerows.errors import BadHoles
+from holerows.families import outermost
+from holerows.firsts import check_buildable, check_some_counts, sets_between
+from holerows.values import are_integers_from, is_one_of
 
 
 def rests_of(counts, holes):
@@ -25,7 +25,7 @@ def judge_rows(counts, holes):
 
 def rows_hold(counts, holes, thing):
     """Whether any value is a certificate for the counts and holes."""
-    return any([is_just(thing, right) for right in rows_certificates(counts, holes)])
+    return is_one_of(thing, rows_certificates(counts, holes))
 
 
 def near_cone(counts, holes):
@@ -70,10 +70,7 @@ def is_overfull(rests, holes, k):
 def fitting_rests(counts, holes):
     """The rests of counts and holes that some family of few points has."""
     certificate = judge_rows(counts, holes)
-    if certificate[0] != "fits":
-        raise NotFit(certificate)
-    if counts[0] > MOST_POINTS:
-        raise TooGreat(counts[0])
+    check_buildable(counts, certificate)
     return certificate[1]
 
 

@@ -1,12 +1,12 @@
 """Families without holes about any face below the greatest dimension, and the counts that they have."""
 
 from holerows.builds import link_within, skeleton_of
-from holerows.errors import NotFit, TooGreat
-from holerows.families import MOST_POINTS, check_family, faces_at, greatest_size
+from holerows.families import check_family, faces_at, greatest_size
 from holerows.fields import check_field
+from holerows.firsts import check_buildable
 from holerows.holes import many_holes
 from holerows.productrows import first_order, h_row, row_certificates
-from holerows.values import is_just
+from holerows.values import is_one_of
 
 
 def is_sound(family, p):
@@ -21,7 +21,7 @@ def judge_sound(family, p):
 
 def sound_holds(family, p, thing):
     """Whether any value is a certificate for the family over p."""
-    return any([is_just(thing, right) for right in sound_certificates(family, p)])
+    return is_one_of(thing, sound_certificates(family, p))
 
 
 def depth_of(family, p):
@@ -42,18 +42,15 @@ def judge_sound_counts(counts):
 
 def sound_counts_hold(counts, thing):
     """Whether any value is a certificate for the counts."""
-    return any([is_just(thing, right) for right in sound_counts_certificates(counts)])
+    return is_one_of(thing, sound_counts_certificates(counts))
 
 
 def pure_first(counts):
     """The sound family with a facet for each product of the first order of the row h."""
     certificate = judge_sound_counts(counts)
-    if certificate[0] != "fits":
-        raise NotFit(certificate)
+    check_buildable(counts, certificate)
     if len(counts) == 0:
         return ()
-    if counts[0] > MOST_POINTS:
-        raise TooGreat(counts[0])
     return tuple(sorted([facet_of(product, len(counts)) for product in first_order(certificate[1])]))
 
 

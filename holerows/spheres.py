@@ -5,13 +5,13 @@ from math import comb
 
 from holerows.builds import link_within
 from holerows.cascades import check_number
-from holerows.errors import BadFamily, BadNumber, BadSize, NotFit, TooGreat
-from holerows.families import MOST_POINTS, check_family, faces_at, greatest_size
+from holerows.errors import BadFamily, BadNumber, BadSize
+from holerows.families import check_family, faces_at, greatest_size
 from holerows.fields import check_field
-from holerows.firsts import check_some_counts
+from holerows.firsts import check_buildable, check_some_counts
 from holerows.holes import many_holes
 from holerows.productrows import first_order, h_row, moved_row, row_certificates
-from holerows.values import is_integer_from, is_just
+from holerows.values import is_integer_from, is_one_of
 
 
 def is_round(family, p):
@@ -26,7 +26,7 @@ def judge_round(family, p):
 
 def round_holds(family, p, thing):
     """Whether any value is a certificate for the family over p."""
-    return any([is_just(thing, right) for right in round_certificates(family, p)])
+    return is_one_of(thing, round_certificates(family, p))
 
 
 def judge_sphere(counts):
@@ -36,16 +36,13 @@ def judge_sphere(counts):
 
 def sphere_holds(counts, thing):
     """Whether any value is a certificate for the counts."""
-    return any([is_just(thing, right) for right in sphere_certificates(counts)])
+    return is_one_of(thing, sphere_certificates(counts))
 
 
 def first_ball(counts):
     """The facets of the ball that the first sphere bounds, one for each product of the first order."""
     certificate = judge_sphere(counts)
-    if certificate[0] != "fits":
-        raise NotFit(certificate)
-    if counts[0] > MOST_POINTS:
-        raise TooGreat(counts[0])
+    check_buildable(counts, certificate)
     return tuple(sorted([ball_facet(product, len(counts)) for product in first_order(certificate[1])]))
 
 
@@ -96,7 +93,8 @@ def round_certificates(family, p):
 
 def has_round_holes(family, size, p):
     """Whether all facets have so many points, and the only hole is one of the greatest dimension."""
-    if len(family) == 0 or not all([len(facet) == size for facet in family]):
+    # The family () has no facets of another size, but it has no hole either.
+    if not all([len(facet) == size for facet in family]):
         return False
     holes = [many_holes(family, p, k) for k in range(1, size + 1)]
     return sum(holes[:-1]) == 0 and holes[-1] == 1

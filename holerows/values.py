@@ -22,6 +22,11 @@ def is_rising(row):
     return all([row[k] < row[k + 1] for k in range(len(row) - 1)])
 
 
+def is_one_of(thing, rights):
+    """Whether any value is one of some right ones of tuples, strings and integers."""
+    return any([is_just(thing, right) for right in rights])
+
+
 def is_just(thing, right):
     """Whether any value equals a right one of tuples, strings and integers, and is of its kinds."""
     if isinstance(right, tuple):

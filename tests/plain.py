@@ -215,6 +215,9 @@ FOLDED = ((0, 1, 3), (0, 1, 4), (0, 2, 3), (0, 2, 5), (0, 4, 5),
           (1, 2, 4), (1, 2, 5), (1, 3, 5), (2, 3, 4), (3, 4, 5))
 # Eight points, all pairs of them, and the triples whose sum leaves 0, 1 or 3 by 8: a hole over 3 alone.
 OVER_3_ALONE = tuple(triple for triple in combinations(range(8), 3) if sum(triple) % 8 in (0, 1, 3))
+# With a triple more, or a hollow one of four points, all fields but one see just the hole of a sphere.
+OVER_3_TWICE = tuple(sorted(OVER_3_ALONE + ((0, 1, 6),)))
+OVER_2_TWICE = tuple(sorted(FOLDED + ((0, 1, 6), (0, 3, 6), (1, 3, 6))))
 # No minor of the small matrices of the tests is a multiple of so great a prime, so it stands for fractions.
 GREAT_PRIME = 2 ** 61 - 1
 

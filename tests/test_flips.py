@@ -11,7 +11,7 @@ from holerows.families import counts_of
 from holerows.flips import flipped, flips_of
 from holerows.spheres import first_sphere, is_round, most_sphere, round_holds
 from plain import (
-    FOLDED, NO_INTEGERS, PARTS, Raises, all_sets, error_of, families_of, is_plain_family, many_families,
+    FOLDED, NO_INTEGERS, OVER_2_TWICE, OVER_3_TWICE, PARTS, Raises, all_sets, error_of, families_of, is_plain_family, many_families,
     plain_bad_faces, plain_faces, plain_flipped, plain_g, points_number, spoiled, wrong_families,
 )
 
@@ -141,7 +141,7 @@ class WrongInputs(unittest.TestCase, Raises):
 
     def test_families_that_are_not_round(self):
         families = [family for n in range(1, 5) for family in families_of(n)]
-        families += [family for family in many_families() if 4 < points_number(family) < 9][::3] + [FOLDED]
+        families += [family for family in many_families() if 4 < points_number(family) < 9][::3] + [FOLDED, OVER_2_TWICE, OVER_3_TWICE]
         many = 0
         for family in families:
             if len(family[0]) > 1 or max(map(len, family)) > 1:
@@ -185,6 +185,9 @@ class WrongInputs(unittest.TestCase, Raises):
     def test_any_values(self):
         family = ((0, 1), (0, 3), (1, 2), (2, 3))
         flips = [repr(flip) for flip in plain_flips(family)]
+        self.assertEqual(plain_flips(RING), (((0, 1), (3,)), ((0, 2), (3,)), ((1, 2), (3,))))
+        for thing in NO_INTEGERS + PARTS:
+            self.check_no_flip(RING, (0,), thing)
         for face, other in (((0, 1), (4,)), ((0,), (1, 3))):
             pairs = [(thing, other) for thing in NO_INTEGERS + PARTS + tuple(spoiled(face))]
             pairs += [(face, thing) for thing in NO_INTEGERS + PARTS + tuple(spoiled(other))]

@@ -16,7 +16,7 @@ from holerows.spheres import (
     sphere_holds,
 )
 from plain import (
-    FIELDS, FOLDED, NO_INTEGERS, NO_SIZES, NO_WHOLES, PARTS, Raises, error_of, face_tuples, families_of,
+    FIELDS, FOLDED, NO_INTEGERS, NO_SIZES, NO_WHOLES, OVER_2_TWICE, OVER_3_TWICE, PARTS, Raises, error_of, face_tuples, families_of,
     is_plain_counts, is_plain_family, many_families, plain_back, plain_bad_faces, plain_g, plain_h,
     points_number, some_family, spoiled, wrong_families,
 )
@@ -125,6 +125,22 @@ class RoundFamilies(unittest.TestCase):
         for family in (RING, ((0, 1), (1, 2)), FOLDED, TORUS, first_sphere((6, 14, 16, 8))):
             for p in FIELDS:
                 self.check(family, p)
+
+    def test_holes_that_one_field_sees(self):
+        for family, alone in ((OVER_3_TWICE, 3), (OVER_2_TWICE, 2)):
+            for p in FIELDS:
+                self.assertIs(("face", ()) in plain_certificates(family, p), p == alone)
+                self.assertIs(round_holds(family, p, ("face", ())), p == alone)
+                self.check(family, p)
+
+    def test_facets_of_unlike_sizes(self):
+        """The whole has just the hole of a sphere, but an edge hangs on it."""
+        family = tuple(sorted(tuple(combinations(range(4), 3)) + ((3, 4),)))
+        for p in FIELDS:
+            self.assertEqual(plain_certificates(family, p), [("face", face) for face in ((), (3,), (3, 4), (4,))])
+            for right in plain_certificates(family, p):
+                self.assertIs(round_holds(family, p, right), True)
+            self.check(family, p)
 
     def test_each_face(self):
         for family in SMALL[::9] + [FOLDED, TORUS[2:], ((0, 1), (0, 2), (0, 3), (1, 2), (1, 3)), ((0, 1, 2), (2, 3))]:

@@ -359,7 +359,7 @@ class Refusals(unittest.TestCase, Raises):
                     self.assertIs(round_holds(family, 2, error.certificate), True)
                 else:
                     self.assertEqual(error.certificate, ("face", ()))
-        for face, other in (((0, 1), (2,)), ((0,), (1, 2)), ((), (0, 1, 2)), (None, (3,)), ((0, 1), [3]), (SHOP, SHOP), ((0, True), (3,))):
+        for face, other in (((0, 1), (2,)), ((0,), (1, 2)), ((), (0, 1, 2)), (None, (3,)), ((0,), None), ((0, 1), [3]), (SHOP, SHOP), ((0, True), (3,))):
             shop = self.shop(RING)
             error = error_of(shop.do, ("flip", face, other))
             self.assertIs(type(error), NoFlip)
