@@ -1,13 +1,10 @@
 """Full families, and the counts of sound families with as many colours as a facet has points."""
 
-from itertools import combinations
-
 from holerows.colours import first_coloured, lower_spread
 from holerows.families import (
     check_family,
     faces_at,
     greatest_size,
-    is_face_within,
     mask_of,
     outermost_of,
     points_in,
@@ -21,8 +18,10 @@ from holerows.values import is_one_of
 def full_family(family):
     """The family of all sets of points any two of which make a face."""
     check_family(family)
-    full = mask_of(points_in(family))
-    return outermost_of([mask for mask in range(full + 1) if are_pairs_faces(family, points_of(mask))])
+    points = points_in(family)
+    # For each point the mask of those that make faces with it, itself among them.
+    near = [mask_of(points_in([facet for facet in family if point in facet])) for point in points]
+    return outermost_of([mask for mask in range(1 << len(points)) if is_near_all(near, mask)])
 
 
 def judge_balanced(counts):
@@ -47,9 +46,9 @@ def first_balanced(counts):
     return tuple(sorted([facet_over(face, size) for face in faces]))
 
 
-def are_pairs_faces(family, points):
-    """Whether any two of some points make a face."""
-    return all([is_face_within(family, pair) for pair in combinations(points, 2)])
+def is_near_all(near, mask):
+    """Whether a mask lies within what is near to each of its points."""
+    return all([near[point] & mask == mask for point in points_of(mask)])
 
 
 def balanced_certificates(counts):

@@ -67,19 +67,17 @@ class Flips(unittest.TestCase):
         kinds = set()
         for family, flips in walks():
             self.assertEqual(flips, plain_flips(family), family)
-            self.assertEqual(flips_of(family=family), flips)
             kinds.update((len(face), len(other)) for face, other in flips)
         self.assertLess({(1, 2), (2, 1), (1, 3), (2, 2), (3, 1), (1, 4), (2, 3), (3, 2), (4, 1), (3, 3), (2, 4)}, kinds)
 
     def test_what_comes(self):
         for family, flips in walks():
-            for face, other in flips[::1 + len(flips) // 5]:
+            for face, other in flips[::1 + len(flips) // 4]:
                 if other == (8,):
                     continue
                 told = flipped(family, face, other)
                 self.assertTrue(is_plain_family(told))
                 self.assertEqual(told, plain_flipped(family, face, other))
-                self.assertEqual(flipped(other=other, face=face, family=family), told)
                 self.assertEqual(plain_g(counts_of(told)), due_g(plain_g(counts_of(family)), face, other))
                 self.assertIs(is_round(told, 2), True)
 
@@ -91,7 +89,7 @@ class Flips(unittest.TestCase):
 
     def test_the_way_back(self):
         for family, flips in walks():
-            for face, other in flips[::1 + len(flips) // 5]:
+            for face, other in flips[::1 + len(flips) // 4]:
                 if other == (8,):
                     continue
                 told = flipped(family, face, other)
@@ -106,10 +104,11 @@ class Flips(unittest.TestCase):
                     self.assertEqual(flipped(told, moved, (n - 1,)), renamed(family, names))
 
     def test_edges(self):
+        self.assertEqual(flipped(other=(3,), face=(0, 2), family=RING), ((0, 1), (0, 3), (1, 2), (2, 3)))
         self.assertEqual(flips_of(((0, 1), (0, 3), (1, 2), (2, 3)))[:2], (((0,), (1, 3)), ((0, 1), (4,))))
         self.assertEqual(flipped(((0, 1), (0, 3), (1, 2), (2, 3)), (0,), (1, 3)), RING)
         self.assertEqual(flipped(((0, 1), (0, 3), (1, 2), (2, 3)), (1,), (0, 2)), RING)
-        self.assertEqual(len(flips_of(RING)), 3)
+        self.assertEqual(len(flips_of(family=RING)), 3)
         for d in range(2, 8):
             whole = tuple(combinations(range(d + 1), d))
             self.assertEqual(flips_of(whole), tuple((facet, (d + 1,)) for facet in whole))
