@@ -107,6 +107,24 @@ class Shellings(unittest.TestCase):
                     self.assertIsNone(shelling, family)
         self.assertEqual(told, {True, False})
 
+    def test_first_facets_that_lead_nowhere(self):
+        """The first four of these go well one behind the other, but no other one can follow them."""
+        chance = random.Random(94)
+        for facets in (
+            ((0, 4, 5), (2, 3, 4), (1, 2, 4), (3, 4, 5), (0, 1, 3), (0, 1, 5), (0, 1, 2), (1, 3, 5), (0, 2, 3)),
+            ((1, 4, 5), (1, 2, 4), (0, 2, 4), (0, 3, 4), (1, 3, 5), (0, 3, 5), (1, 2, 3), (2, 3, 5), (0, 2, 5)),
+        ):
+            first, others = facets[:4], facets[4:]
+            orders = [order for order in permutations(first) if plain_new_faces(order) is not None]
+            self.assertGreater(len(orders), 0)
+            for facet in others:
+                self.assertIsNone(plain_new_faces(orders[0] + (facet,)))
+            for _ in range(40):
+                names = chance.sample(range(6), 6)
+                family = tuple(sorted(tuple(sorted(names[point] for point in facet)) for facet in facets))
+                self.assertIsNotNone(plain_new_faces(a_shelling(family)))
+                self.assertIs(is_shelling(family, a_shelling(family)), True)
+
     def test_a_ring_and_a_ring_of_strips(self):
         family = ((0, 1), (0, 4), (1, 2), (2, 3), (3, 4))
         self.assertIs(is_shelling(family, a_shelling(family)), True)
